@@ -1,0 +1,1 @@
+"""Cornerturn: a guard who corners a runner in a web of places."""
