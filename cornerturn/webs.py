@@ -1,6 +1,8 @@
 """Webs of places: what is tied to what, and what is seen from where."""
 
+from cornerturn.bits import bits_of
 from cornerturn.errors import BadPlaces, BadTie, BadTies, NoPlace
+from cornerturn.reckoning import rank_rows
 
 MOST_PLACES = 12
 MOST_LETTERS = 8
@@ -61,13 +63,19 @@ def _check_ties(places, known, ties):
         pairs.add(_pair(entry))
 
 
-def _seen_places(places, ties):
-    """Return a dict from each place to the list of those that it sees, in their sequence."""
-    tied = {place: [place] for place in places}
+def _sights(places, ties):
+    """Return a tuple: for each place the number whose bits are the places that it sees."""
+    at = {place: position for position, place in enumerate(places)}
+    sights = [1 << position for position in range(len(places))]
     for one, other in ties:
-        tied[one].append(other)
-        tied[other].append(one)
-    return {place: [seen for seen in places if seen in tied[place]] for place in places}
+        sights[at[one]] |= 1 << at[other]
+        sights[at[other]] |= 1 << at[one]
+    return tuple(sights)
+
+
+def seen_places(web):
+    """Return a dict from each place of a web to the list of those that it sees, in the web's sequence."""
+    return {place: web.sees(place) for place in web.places}
 
 
 class Web:
@@ -78,7 +86,9 @@ class Web:
         _check_ties(places, (), ties)
         self._places = tuple(places)
         self._ties = tuple(ties)
-        self._seen = _seen_places(self._places, self._ties)
+        self._sights = _sights(self._places, self._ties)
+        self._seen = {place: self.named(sight) for place, sight in zip(self._places, self._sights)}
+        self._ranks = None
         # Webs are compared by these two, in which no sequence counts.
         self._sorted_places = sorted(self._places)
         self._sorted_pairs = sorted([_pair(tie) for tie in self._ties])
@@ -101,6 +111,21 @@ class Web:
         """Return the list of the places that a place sees, in the web's sequence."""
         check_place(self, place)
         return list(self._seen[place])
+
+    def named(self, number):
+        """Return the list of the places whose bits a number has, in the web's sequence."""
+        return [self._places[position] for position in bits_of(number)]
+
+    def sights(self):
+        """Return a tuple: for each place the number whose bits are the places that it sees."""
+        return self._sights
+
+    def ranks(self):
+        """Return the tuple of the guard's places' rows: tuples of the ranks for each place of the runner."""
+        # Whatever is asked of a web's ranks needs all of them, and a web never changes: they are reckoned once.
+        if self._ranks is None:
+            self._ranks = rank_rows(self._sights)
+        return self._ranks
 
     def parts(self):
         """Return the list of the greatest lists of places that hang together."""

@@ -115,6 +115,27 @@ class Ranks(unittest.TestCase):
                     expected = 11 - guard if runner > guard else guard
                 self.assertEqual(ranks[web.places[guard], web.places[runner]], expected)
 
+    def test_each_standing_of_a_long_row_agrees_with_all_ranks(self):
+        for web in (long_row(12), long_row(12).without(["f"]), full_web(12), Web(list("lkjihgfedcba"))):
+            ranks = all_ranks(web)
+            self.assertEqual(list(ranks), [(guard, runner) for guard in web.places for runner in web.places])
+            self.assertEqual({(guard, runner): rank_of(web, guard, runner) for guard, runner in ranks}, ranks)
+            self.assertEqual(all_ranks(web), ranks)
+        self.assertEqual(len(all_ranks(long_row(12))), 144)
+
+    def test_webs_made_from_one_another_have_ranks_of_their_own(self):
+        row = row_web()
+        self.assertEqual(rank_of(row, "a", "c"), 2)
+        self.assertEqual(rank_of(row.tied([("a", "c")]), "a", "c"), 1)
+        self.assertEqual(rank_of(row.without(["b"]), "a", "c"), None)
+        self.assertEqual(rank_of(row.without([]), "a", "c"), 2)
+        self.assertEqual(rank_of(row, "a", "c"), 2)
+
+    def test_asking_for_ranks_changes_no_comparison(self):
+        asked, fresh = ring_web(), ring_web()
+        all_ranks(asked)
+        self.assertEqual([asked == fresh, fresh == asked, asked == row_web()], [True, True, False])
+
     def test_all_small_webs_by_the_rules(self):
         for many in (1, 2, 3, 4):
             for web in all_webs(many):
