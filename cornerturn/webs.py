@@ -31,6 +31,13 @@ def _all_differ(names):
     return len(set(names)) == len(names)
 
 
+def are_places(web, value):
+    """Tell whether any value is a list of different places of a web."""
+    if not isinstance(value, list) or not all([is_place(web, place) for place in value]):
+        return False
+    return _all_differ(value)
+
+
 def _check_places(places):
     # The names are looked at before they are compared by a set: other values may not fit into one.
     if not isinstance(places, (list, tuple)) or not 1 <= len(places) <= MOST_PLACES:
@@ -65,12 +72,12 @@ def _check_ties(places, known, ties):
 
 def _sights(places, ties):
     """Return a tuple: for each place the number whose bits are the places that it sees."""
-    at = {place: position for position, place in enumerate(places)}
-    sights = [1 << position for position in range(len(places))]
+    bits = {place: 1 << at for at, place in enumerate(places)}
+    sights = {place: bits[place] for place in places}
     for one, other in ties:
-        sights[at[one]] |= 1 << at[other]
-        sights[at[other]] |= 1 << at[one]
-    return tuple(sights)
+        sights[one] |= bits[other]
+        sights[other] |= bits[one]
+    return tuple([sights[place] for place in places])
 
 
 def seen_places(web):
@@ -112,9 +119,13 @@ class Web:
         check_place(self, place)
         return list(self._seen[place])
 
+    def whole(self):
+        """Return the number whose bits are all places."""
+        return (1 << len(self._places)) - 1
+
     def named(self, number):
         """Return the list of the places whose bits a number has, in the web's sequence."""
-        return [self._places[position] for position in bits_of(number)]
+        return [self._places[at] for at in bits_of(number)]
 
     def sights(self):
         """Return a tuple: for each place the number whose bits are the places that it sees."""
@@ -151,16 +162,10 @@ class Web:
 
     def without(self, places):
         """Return a new web without some places and their ties."""
-        if not self._can_spare(places):
+        if not are_places(self, places) or len(places) == len(self._places):
             raise BadPlaces(places)
         kept = [place for place in self._places if place not in places]
         return Web(kept, [(one, other) for one, other in self._ties if one in kept and other in kept])
-
-    def _can_spare(self, places):
-        """Tell whether any value is a list of different places, and not of all of them."""
-        if not isinstance(places, list) or not all([is_place(self, place) for place in places]):
-            return False
-        return _all_differ(places) and len(places) < len(self._places)
 
     def tied(self, ties):
         """Return a new web with further ties behind the others."""

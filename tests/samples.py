@@ -48,6 +48,64 @@ def some_webs(many, count):
         yield Web(list(names), ties)
 
 
+def can_be_taken_apart(web):
+    """Tell whether one place is left when overlooked places are taken away (point [5])."""
+    left = list(web.places)
+    sees = {place: set(web.sees(place)) for place in left}
+    while True:
+        for place in left:
+            if any(other != place and sees[place] & set(left) <= sees[other] for other in left):
+                left.remove(place)
+                break
+        else:
+            return len(left) == 1
+
+
+def ring_of(many):
+    names = LETTERS[:many]
+    return long_row(many).tied([(names[-1], names[0])])
+
+
+def web_of_parts(*parts):
+    """Return a web of rings and rows: a number n > 2 is a ring of n places, and 1 or 2 a row."""
+    names, ties, at = LETTERS[:sum(parts)], [], 0
+    for many in parts:
+        part = names[at:at + many]
+        ties += list(zip(part, part[1:]))
+        if many > 2:
+            ties.append((part[-1], part[0]))
+        at += many
+    return Web(list(names), ties)
+
+
+def opposite(web):
+    """Return the web in which just those places are tied that are not tied in a web."""
+    couples = combinations(web.places, 2)
+    return Web(web.places, [(one, other) for one, other in couples if other not in web.sees(one)])
+
+
+def renamed(web, names, order):
+    """Return a web with other names, its places in another order (a list of their positions), ties turned round."""
+    name = dict(zip(web.places, names))
+    ties = [(name[other], name[one]) for one, other in reversed(web.ties)]
+    return Web([name[web.places[at]] for at in order], ties)
+
+
+def standings_of(web):
+    """Return the list of all tuples of two different places."""
+    return [(guard, runner) for guard in web.places for runner in web.places if guard != runner]
+
+
+def looks(web):
+    """Return what can be seen of a web."""
+    return web.places, web.ties, [web.sees(place) for place in web.places], web.parts()
+
+
+def no_names():
+    """Return values to stand in the place of a name; they equal no name."""
+    return [None, True, 0, "", "q", "ab", [], ["a"], {}, {"a": 1}, ("a",), ("a", "b"), [["a"]], Web(["a"])]
+
+
 def deep(depth):
     value = []
     for _ in range(depth):
@@ -72,3 +130,17 @@ def any_values():
         [["a"]], (("a",),), [{"a": 1}],
         Web(["a"]), [Web(["a"])], (Web(["a"]), Web(["b"])), BadTie(0), [BadTie(0)],
     ]
+
+
+class Mixed:
+    """Numbers that are mixed but the same ones in each run."""
+
+    def __init__(self):
+        self.state = 2026
+
+    def below(self, many):
+        self.state = (self.state * 1103515245 + 12345) % 2 ** 31
+        return (self.state >> 16) % many
+
+    def of(self, values):
+        return values[self.below(len(values))]

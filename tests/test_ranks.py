@@ -5,7 +5,7 @@ import unittest
 from cornerturn.errors import NoPlace
 from cornerturn.ranks import all_ranks, best_starts, is_ranks, rank_of, turns_needed
 from cornerturn.webs import Web
-from samples import all_webs, any_values, full_web, long_row, ring_web, row_web, some_webs
+from samples import all_webs, any_values, can_be_taken_apart, full_web, long_row, ring_web, row_web, some_webs
 
 
 def rank_by_the_rules(web, guard, runner, limit, known):
@@ -45,19 +45,6 @@ def turns_by_the_rules(web):
             found[guard] = max(row)
     turns = min(found.values()) if found else None
     return turns, [guard for guard in found if found[guard] == turns]
-
-
-def can_be_taken_apart(web):
-    """Tell whether one place is left when overlooked places are taken away (point [5])."""
-    left = list(web.places)
-    sees = {place: set(web.sees(place)) for place in left}
-    while True:
-        for place in left:
-            if any(other != place and sees[place] & set(left) <= sees[other] for other in left):
-                left.remove(place)
-                break
-        else:
-            return len(left) == 1
 
 
 class Examples(unittest.TestCase):
