@@ -3,9 +3,9 @@
 from cornerturn.bits import bits_of, united
 
 
-def lost_runners(sights, caught, won):
-    """Return the places where a runner who is to move is caught, or comes to a place of won by each move."""
-    lost = caught
+def lost_runners(sights, won):
+    """Return the places from which each move of the runner leads to a place of won."""
+    lost = 0
     for place, sight in enumerate(sights):
         if sight & won == sight:
             lost |= 1 << place
@@ -25,7 +25,7 @@ def rank_rows(sights):
             for runner in bits_of(fresh[guard]):
                 rows[guard][runner] = rank
         won = [won[guard] | fresh[guard] for guard in places]
-        lost = [lost_runners(sights, 1 << guard, won[guard]) for guard in places]
+        lost = [lost_runners(sights, won[guard]) | (1 << guard) for guard in places]
         fresh = [united(lost, seen[guard]) & ~won[guard] for guard in places]
         rank += 1
     return tuple([tuple(row) for row in rows])

@@ -10,6 +10,13 @@ INTERFACE = {
                "BadMove", "TooFar", "BadText"],
     "webs": ["Web"],
     "ranks": ["rank_of", "all_ranks", "is_ranks", "turns_needed", "best_starts"],
+    "orders": ["overlookers", "an_order", "is_order", "a_core", "is_core"],
+    "likeness": ["a_mapping", "is_mapping", "same_core"],
+    "plans": ["a_plan", "plan_turns"],
+    "outs": ["way_out", "is_way_out"],
+    "runners": ["a_runner", "lasts"],
+    "several": ["turns_with", "fewest"],
+    "mending": ["ties_to_add", "places_to_shut"],
 }
 
 
