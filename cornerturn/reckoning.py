@@ -1,31 +1,43 @@
-"""Ranks of standings, reckoned on places as bits: all runners beside one guard at a time."""
+"""Ranks of standings, reckoned on places as bits: all runners beside one stand of the guards at a time."""
 
 from cornerturn.bits import bits_of, united
 
 
-def lost_runners(sights, won):
+def lost_runners(steps, won):
     """Return the places from which each move of the runner leads to a place of won."""
     lost = 0
-    for place, sight in enumerate(sights):
-        if sight & won == sight:
+    for place, step in enumerate(steps):
+        if step & won == step:
             lost |= 1 << place
     return lost
 
 
-def rank_rows(sights):
-    """Return a tuple of rows, one for each place of the guard: tuples of the ranks, one for each of the runner."""
-    places = range(len(sights))
-    seen = [bits_of(sight) for sight in sights]
-    rows = [[None] * len(sights) for _ in places]
-    won = [0] * len(sights)
-    fresh = [1 << place for place in places]
+def rank_rows(ways, held, steps):
+    """Return a tuple of rows, one for each stand of the guards: tuples of the ranks, one for each of the runner's.
+
+    For each stand are given: the positions of those that can be moved to, the places held, and the runner's moves.
+    """
+    stands = range(len(ways))
+    rows = [[None] * len(steps[stand]) for stand in stands]
+    won = [0] * len(ways)
+    fresh = list(held)
     rank = 0
     while any(fresh):
-        for guard in places:
-            for runner in bits_of(fresh[guard]):
-                rows[guard][runner] = rank
-        won = [won[guard] | fresh[guard] for guard in places]
-        lost = [lost_runners(sights, won[guard]) | (1 << guard) for guard in places]
-        fresh = [united(lost, seen[guard]) & ~won[guard] for guard in places]
+        for stand in stands:
+            for runner in bits_of(fresh[stand]):
+                rows[stand][runner] = rank
+        won = [won[stand] | fresh[stand] for stand in stands]
+        lost = [lost_runners(steps[stand], won[stand]) | held[stand] for stand in stands]
+        fresh = [united(lost, ways[stand]) & ~won[stand] for stand in stands]
         rank += 1
     return tuple([tuple(row) for row in rows])
+
+
+def greatest_rank(ranks):
+    """Return the greatest one of some ranks, None if one of them is None."""
+    return None if None in ranks else max(ranks)
+
+
+def least_rank(ranks):
+    """Return the least one of some ranks, None if all of them are None."""
+    return min([rank for rank in ranks if rank is not None], default=None)

@@ -2,7 +2,6 @@
 
 from cornerturn.bits import bits_of
 from cornerturn.errors import BadPlaces, BadTie, BadTies, NoPlace
-from cornerturn.reckoning import rank_rows
 
 MOST_PLACES = 12
 MOST_LETTERS = 8
@@ -95,7 +94,7 @@ class Web:
         self._ties = tuple(ties)
         self._sights = _sights(self._places, self._ties)
         self._seen = {place: self.named(sight) for place, sight in zip(self._places, self._sights)}
-        self._ranks = None
+        self._kept = {}
         # Webs are compared by these two, in which no sequence counts.
         self._sorted_places = sorted(self._places)
         self._sorted_pairs = sorted([_pair(tie) for tie in self._ties])
@@ -131,12 +130,13 @@ class Web:
         """Return a tuple: for each place the number whose bits are the places that it sees."""
         return self._sights
 
-    def ranks(self):
-        """Return the tuple of the guard's places' rows: tuples of the ranks for each place of the runner."""
-        # Whatever is asked of a web's ranks needs all of them, and a web never changes: they are reckoned once.
-        if self._ranks is None:
-            self._ranks = rank_rows(self._sights)
-        return self._ranks
+    def kept(self, key):
+        """Return what is kept of a web by a key, None if nothing is."""
+        return self._kept.get(key)
+
+    def keep(self, key, value):
+        """Keep what was worked out of a web: as it never changes, nothing needs to be worked out twice."""
+        self._kept[key] = value
 
     def parts(self):
         """Return the list of the greatest lists of places that hang together."""

@@ -2,6 +2,7 @@
 
 from itertools import combinations
 
+from cornerturn.chases import Chase
 from cornerturn.errors import BadTie
 from cornerturn.webs import Web
 
@@ -129,6 +130,7 @@ def any_values():
         deep(29), deep_tuple(29), [[]], [()], ((),), [{}], [None], [True], (False,), [0], (1,),
         [["a"]], (("a",),), [{"a": 1}],
         Web(["a"]), [Web(["a"])], (Web(["a"]), Web(["b"])), BadTie(0), [BadTie(0)],
+        Chase(Web(["a"])), [Chase(Web(["a"]))], (Chase(Web(["a"])), "a"),
     ]
 
 

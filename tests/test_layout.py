@@ -17,6 +17,14 @@ INTERFACE = {
     "runners": ["a_runner", "lasts"],
     "several": ["turns_with", "fewest"],
     "mending": ["ties_to_add", "places_to_shut"],
+    "pieces": ["is_piece", "places_of", "ties_of", "enough", "turns_of", "web_of"],
+    "chases": ["Chase"],
+    "texts": ["web_text", "read_web"],
+}
+METHODS = {
+    ("webs", "Web"): ["__init__", "places", "ties", "sees", "parts", "without", "tied", "__eq__"],
+    ("chases", "Chase"): ["__init__", "web", "guard", "runner", "turns", "who", "move", "left", "best", "undo", "fork",
+                          "__eq__"],
 }
 
 
@@ -53,6 +61,14 @@ class Layout(unittest.TestCase):
             defined = [row.name for row in rows if isinstance(row, (ast.ClassDef, ast.FunctionDef))]
             for word in expected:
                 self.assertIn(word, defined)
+
+    def test_the_methods_stand_in_the_classes_themselves(self):
+        for (name, word), expected in METHODS.items():
+            rows = ast.parse((FOLDER / f"{name}.py").read_text()).body
+            (found,) = [row for row in rows if isinstance(row, ast.ClassDef) and row.name == word]
+            defined = [row.name for row in found.body if isinstance(row, ast.FunctionDef)]
+            for method in expected:
+                self.assertIn(method, defined)
 
 
 if __name__ == "__main__":
