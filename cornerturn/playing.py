@@ -75,15 +75,11 @@ def _reached(state, turns):
 def _turns_with(game, state, choice):
     """Return how many further turns, this one too, the guards need with a choice or a move, None for ever."""
     stand, place, _, mover = state
-    rows = game.rows()
     if mover == RUNNER:
-        return rows[stand][choice]
+        return game.rows()[stand][choice]
     if place is None:
-        return greatest_rank(rows[choice])
-    if game.catches(choice, place):
-        return 1
-    turns = greatest_rank([rows[choice][step] for step in bits_of(game.steps[choice][place])])
-    return None if turns is None else turns + 1
+        return greatest_rank(game.rows()[choice])
+    return game.turns_by(choice, place)
 
 
 def states_before(states, number):

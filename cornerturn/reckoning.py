@@ -12,24 +12,28 @@ def lost_runners(steps, won):
     return lost
 
 
-def rank_rows(ways, held, steps):
-    """Return a tuple of rows, one for each stand of the guards: tuples of the ranks, one for each of the runner's.
+def rank_rounds(ways, held, steps):
+    """Return the list: for each rank there is, for each stand of the guards, the runner's places of at most this rank.
 
     For each stand are given: the positions of those that can be moved to, the places held, and the runner's moves.
     """
-    stands = range(len(ways))
-    rows = [[None] * len(steps[stand]) for stand in stands]
-    won = [0] * len(ways)
-    fresh = list(held)
-    rank = 0
-    while any(fresh):
-        for stand in stands:
-            for runner in bits_of(fresh[stand]):
-                rows[stand][runner] = rank
-        won = [won[stand] | fresh[stand] for stand in stands]
-        lost = [lost_runners(steps[stand], won[stand]) | held[stand] for stand in stands]
-        fresh = [united(lost, ways[stand]) & ~won[stand] for stand in stands]
-        rank += 1
+    rounds = [held]
+    while len(rounds) == 1 or rounds[-1] != rounds[-2]:
+        won = rounds[-1]
+        lost = [lost_runners(steps[stand], won[stand]) | held[stand] for stand in range(len(ways))]
+        rounds.append([united(lost, seen) for seen in ways])
+    return rounds[:-1]
+
+
+def rank_rows(rounds, places):
+    """Return a tuple of rows, one for each stand of the guards: tuples of the ranks, one for each of the places."""
+    before = [0] * len(rounds[0])
+    rows = [[None] * places for _ in before]
+    for rank, won in enumerate(rounds):
+        for stand, row in enumerate(rows):
+            for place in bits_of(won[stand] & ~before[stand]):
+                row[place] = rank
+        before = won
     return tuple([tuple(row) for row in rows])
 
 

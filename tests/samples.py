@@ -4,6 +4,7 @@ from itertools import combinations
 
 from cornerturn.chases import Chase
 from cornerturn.errors import BadTie
+from cornerturn.teamchases import TeamChase
 from cornerturn.webs import Web
 
 LETTERS = "abcdefghijkl"
@@ -130,7 +131,7 @@ def any_values():
         deep(29), deep_tuple(29), [[]], [()], ((),), [{}], [None], [True], (False,), [0], (1,),
         [["a"]], (("a",),), [{"a": 1}],
         Web(["a"]), [Web(["a"])], (Web(["a"]), Web(["b"])), BadTie(0), [BadTie(0)],
-        Chase(Web(["a"])), [Chase(Web(["a"]))], (Chase(Web(["a"])), "a"),
+        Chase(Web(["a"])), [Chase(Web(["a"]))], (Chase(Web(["a"])), "a"), TeamChase(Web(["a"])),
     ]
 
 

@@ -8,6 +8,7 @@ from cornerturn.chases import Chase
 from cornerturn.errors import BadMove, NoPlace, TooFar, WebError
 from cornerturn.ranks import all_ranks, best_starts, rank_of, turns_needed
 from cornerturn.webs import Web
+from rules import OneGuard, answers_by_the_rules, ranks_by_the_rules
 from samples import (LETTERS, Mixed, all_webs, any_values, full_web, long_row, looks, no_names, opposite, renamed,
                      ring_of, ring_web, row_web, some_webs, web_of_parts)
 
@@ -22,39 +23,6 @@ def chase_with(web, *moves):
 def look(chase):
     """Return all that can be seen of a chase."""
     return chase.web, chase.guard, chase.runner, chase.turns, chase.who, chase.left(), chase.best()
-
-
-def most(turns):
-    return None if None in turns else max(turns)
-
-
-def least(turns):
-    return min([many for many in turns if many is not None], default=None)
-
-
-def answers_by_the_rules(chase, ranks):
-    """Return (left, best) from the ranks of a chase's web, as the interface says it."""
-    web, guard, runner, who = chase.web, chase.guard, chase.runner, chase.who
-    if who == "none":
-        return 0, []
-    if guard is None:
-        turns = {place: most([ranks[place, other] for other in web.places]) for place in web.places}
-    elif runner is None:
-        turns = {place: ranks[guard, place] for place in web.places}
-    elif who == "runner":
-        turns = {place: ranks[guard, place] for place in web.sees(runner)}
-    else:
-        turns = {place: turns_behind(web, ranks, place, runner) for place in web.sees(guard)}
-    left = most(list(turns.values())) if who == "runner" else least(list(turns.values()))
-    return left, [place for place in turns if turns[place] == left]
-
-
-def turns_behind(web, ranks, guard, runner):
-    """Return the turns that the guard needs with a move to a place, that move's turn counted."""
-    if guard == runner:
-        return 1
-    further = most([ranks[guard, place] for place in web.sees(runner)])
-    return None if further is None else further + 1
 
 
 def all_stands(web):
@@ -85,9 +53,10 @@ class Examples(unittest.TestCase):
 
 class Answers(unittest.TestCase):
     def assert_answers(self, web):
-        ranks = all_ranks(web)
+        rules = OneGuard(web)
+        ranks = ranks_by_the_rules(rules)
         for chase in all_stands(web):
-            self.assertEqual((chase.left(), chase.best()), answers_by_the_rules(chase, ranks))
+            self.assertEqual((chase.left(), chase.best()), answers_by_the_rules(rules, ranks, chase, chase.guard))
 
     def test_small_webs(self):
         for many in (1, 2, 3, 4):
@@ -429,7 +398,7 @@ class Calls(unittest.TestCase):
 
     def test_ranks_are_reckoned_once(self):
         web = long_row(6)
-        with mock.patch.object(games, "rank_rows", wraps=games.rank_rows) as reckoned:
+        with mock.patch.object(games, "rank_rounds", wraps=games.rank_rounds) as reckoned:
             for chase in [*all_stands(web), *all_stands(web)]:
                 look(chase)
             self.assertEqual([rank_of(web, "a", "f"), all_ranks(web)["a", "f"], turns_needed(web)], [5, 5, 3])
@@ -451,7 +420,7 @@ class Calls(unittest.TestCase):
     def test_mixed_plays(self):
         mixed = Mixed()
         for web in [*some_webs(8, 15), web_of_parts(4, 4)]:
-            ranks = all_ranks(web)
+            rules, ranks = OneGuard(web), all_ranks(web)
             chase, past = Chase(web), []
             for _ in range(60):
                 if past and (chase.who == "none" or mixed.below(6) == 0):
@@ -463,7 +432,7 @@ class Calls(unittest.TestCase):
                     past.append(look(chase))
                     here = chase.guard if chase.who == "guard" else chase.runner
                     chase.move(mixed.of(web.places if chase.runner is None else web.sees(here)))
-                self.assertEqual((chase.left(), chase.best()), answers_by_the_rules(chase, ranks))
+                self.assertEqual((chase.left(), chase.best()), answers_by_the_rules(rules, ranks, chase, chase.guard))
 
 
 if __name__ == "__main__":

@@ -20,11 +20,19 @@ INTERFACE = {
     "pieces": ["is_piece", "places_of", "ties_of", "enough", "turns_of", "web_of"],
     "chases": ["Chase"],
     "texts": ["web_text", "read_web"],
+    "teams": ["BadPost", "posts", "seen_posts", "team_rank", "team_ranks", "team_starts", "team_plan",
+              "team_plan_turns", "team_way_out", "is_team_way_out"],
+    "paces": ["BadPace", "reach", "runs", "pace_rank", "pace_turns", "least_pace", "pace_plan", "pace_plan_turns",
+              "pace_way_out", "is_pace_way_out"],
+    "unseen": ["lots", "catches", "walk_turns", "a_walk", "a_refuge", "is_refuge"],
+    "teamchases": ["TeamChase"],
 }
 METHODS = {
     ("webs", "Web"): ["__init__", "places", "ties", "sees", "parts", "without", "tied", "__eq__"],
     ("chases", "Chase"): ["__init__", "web", "guard", "runner", "turns", "who", "move", "left", "best", "undo", "fork",
                           "__eq__"],
+    ("teamchases", "TeamChase"): ["__init__", "web", "post", "runner", "turns", "who", "move", "left", "best", "undo",
+                                  "fork", "__eq__"],
 }
 
 

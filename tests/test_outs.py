@@ -6,19 +6,9 @@ from itertools import product
 from cornerturn.outs import is_way_out, way_out
 from cornerturn.ranks import all_ranks, turns_needed
 from cornerturn.webs import Web
+from rules import OneGuard, is_way_out_by_the_rules
 from samples import (LETTERS, Mixed, all_webs, any_values, can_be_taken_apart, full_web, long_row, looks, no_names,
                      opposite, ring_of, ring_web, row_web, some_webs, standings_of, web_of_parts)
-
-
-def is_way_out_by_the_rules(web, value):
-    """Tell whether a dict from tuples of two different places to places is a way out, as point [8] says it."""
-    for (guard, runner), place in value.items():
-        if place not in web.sees(runner) or place in web.sees(guard):
-            return False
-        if any((step, place) not in value for step in web.sees(guard)):
-            return False
-    return all(any(all(step != place and (step, place) in value for step in web.sees(guard)) for place in web.places)
-               for guard in web.places)
 
 
 def large_webs():
@@ -49,7 +39,7 @@ class WayOut(unittest.TestCase):
         self.assertIs(value.__class__, dict)
         for key in value:
             self.assertIn(key, standings_of(web))
-        self.assertTrue(is_way_out_by_the_rules(web, value))
+        self.assertTrue(is_way_out_by_the_rules(OneGuard(web), value))
         self.assertIs(is_way_out(web, value), True)
 
     def test_small_webs(self):
@@ -85,7 +75,7 @@ class IsWayOut(unittest.TestCase):
             standings = standings_of(web)
             for places in product([None, *web.places], repeat=len(standings)):
                 value = {key: place for key, place in zip(standings, places) if place is not None}
-                self.assertIs(is_way_out(web, value), is_way_out_by_the_rules(web, value))
+                self.assertIs(is_way_out(web, value), is_way_out_by_the_rules(OneGuard(web), value))
 
     def test_changed_ways_out(self):
         for web in [ring_web(), ring_of(5), Web(["a", "b", "c"]), web_of_parts(4, 2), web_of_parts(3, 2, 1),
@@ -95,10 +85,10 @@ class IsWayOut(unittest.TestCase):
                 continue
             for key in standings_of(web):
                 less = without_key(value, key)
-                self.assertIs(is_way_out(web, less), is_way_out_by_the_rules(web, less))
+                self.assertIs(is_way_out(web, less), is_way_out_by_the_rules(OneGuard(web), less))
                 for place in web.places:
                     changed = {**value, key: place}
-                    self.assertIs(is_way_out(web, changed), is_way_out_by_the_rules(web, changed))
+                    self.assertIs(is_way_out(web, changed), is_way_out_by_the_rules(OneGuard(web), changed))
             for key in value:
                 for wrong in any_values() + no_names():
                     self.assertIs(is_way_out(web, {**value, key: wrong}), False)
@@ -114,7 +104,7 @@ class IsWayOut(unittest.TestCase):
                     safe = [place for place in web.sees(runner) if ranks[guard, place] is None]
                     if safe and mixed.below(60):
                         value[guard, runner] = mixed.of(safe)
-                expected = is_way_out_by_the_rules(web, value)
+                expected = is_way_out_by_the_rules(OneGuard(web), value)
                 self.assertIs(is_way_out(web, value), expected)
                 counts[expected] += 1
         self.assertGreater(min(counts.values()), 100)

@@ -6,7 +6,7 @@ from math import comb
 from cornerturn.errors import BadPiece, BadTie, HasGlue, TooMany, WebError
 from cornerturn.pieces import enough, is_piece, places_of, ties_of, turns_of, web_of
 from cornerturn.ranks import turns_needed
-from cornerturn.reckoning import greatest_rank, least_rank, rank_rows
+from cornerturn.reckoning import greatest_rank, least_rank, rank_rounds, rank_rows
 from cornerturn.webs import Web
 from samples import (LETTERS, Mixed, any_values, can_be_taken_apart, deep_tuple, full_web, long_row, ring_of, ring_web,
                      row_web)
@@ -43,7 +43,7 @@ def turns_of_net(many, ties):
     """Return the turns that a net of any number of places needs, by its ranks."""
     seen = [[other for other in range(many) if sees(ties, one, other)] for one in range(many)]
     steps = [sum(1 << other for other in row) for row in seen]
-    rows = rank_rows(seen, [1 << at for at in range(many)], [steps] * many)
+    rows = rank_rows(rank_rounds(seen, [1 << at for at in range(many)], [steps] * many), many)
     return least_rank([greatest_rank(row) for row in rows])
 
 

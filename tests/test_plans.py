@@ -6,48 +6,9 @@ from itertools import product
 from cornerturn.plans import a_plan, plan_turns
 from cornerturn.ranks import all_ranks, best_starts, turns_needed
 from cornerturn.webs import Web
+from rules import OneGuard, plan_turns_by_the_rules, standings_that_come_up
 from samples import (LETTERS, Mixed, all_webs, any_values, full_web, long_row, looks, no_names, ring_of, ring_web,
                      row_web, some_webs, standings_of, web_of_parts)
-
-
-def turns_by_the_rules(web, start, moves):
-    """Return the turns of a good plan and None for others, playing it against each way of the runner."""
-    known = {}
-
-    def turns_from(guard, runner, before):
-        if guard == runner:
-            return 0
-        if (guard, runner) in before:
-            return None
-        if (guard, runner) not in known:
-            known[guard, runner] = turns_of_move(guard, runner, before | {(guard, runner)})
-        return known[guard, runner]
-
-    def turns_of_move(guard, runner, before):
-        if (guard, runner) not in moves or moves[guard, runner] not in web.sees(guard):
-            return None
-        place = moves[guard, runner]
-        if place == runner:
-            return 1
-        behind = [turns_from(place, other, before) for other in web.sees(runner)]
-        return None if None in behind else 1 + max(behind)
-
-    found = [turns_from(start, runner, frozenset()) for runner in web.places]
-    return None if None in found else max(found)
-
-
-def standings_that_come_up(web, plan):
-    """Return the set of the standings of two different places that come up in a good plan."""
-    start, moves = plan
-    found, waiting = set(), [(start, runner) for runner in web.places]
-    while waiting:
-        guard, runner = waiting.pop()
-        if guard != runner and (guard, runner) not in found:
-            found.add((guard, runner))
-            place = moves[guard, runner]
-            if place != runner:
-                waiting += [(place, other) for other in web.sees(runner)]
-    return found
 
 
 class Examples(unittest.TestCase):
@@ -75,7 +36,7 @@ class APlan(unittest.TestCase):
         for standing, place in moves.items():
             self.assertIn(standing, all_ranks(web))
             self.assertIn(place, web.sees(standing[0]))
-        self.assertEqual(turns_by_the_rules(web, start, moves), turns)
+        self.assertEqual(plan_turns_by_the_rules(OneGuard(web), start, moves), turns)
         self.assertEqual(plan_turns(web, plan), turns)
         self.assertIs(plan_turns(web, plan).__class__, int)
 
@@ -115,7 +76,8 @@ class PlanTurns(unittest.TestCase):
             for places in product(*[[*web.sees(guard), None] for guard, _ in standings]):
                 moves = {standing: place for standing, place in zip(standings, places) if place is not None}
                 for start in web.places:
-                    self.assertEqual(plan_turns(web, (start, moves)), turns_by_the_rules(web, start, moves))
+                    expected = plan_turns_by_the_rules(OneGuard(web), start, moves)
+                    self.assertEqual(plan_turns(web, (start, moves)), expected)
 
     def test_mixed_plans(self):
         mixed = Mixed()
@@ -127,7 +89,7 @@ class PlanTurns(unittest.TestCase):
                     seen = web.sees(guard)
                     moves[guard, runner] = runner if runner in seen and mixed.below(9) else mixed.of(seen)
                 start = mixed.of(web.places)
-                expected = turns_by_the_rules(web, start, moves)
+                expected = plan_turns_by_the_rules(OneGuard(web), start, moves)
                 self.assertEqual(plan_turns(web, (start, moves)), expected)
                 good += expected is not None
         self.assertGreater(good, 100)
@@ -139,11 +101,12 @@ class PlanTurns(unittest.TestCase):
             if plan is None:
                 continue
             for start in web.places:
-                self.assertEqual(plan_turns(web, (start, plan[1])), turns_by_the_rules(web, start, plan[1]))
+                expected = plan_turns_by_the_rules(OneGuard(web), start, plan[1])
+                self.assertEqual(plan_turns(web, (start, plan[1])), expected)
             for standing in plan[1]:
                 for place in web.sees(standing[0]):
                     moves = {**plan[1], standing: place, mixed.of(standings_of(web)): mixed.of(web.places)}
-                    expected = turns_by_the_rules(web, plan[0], moves)
+                    expected = plan_turns_by_the_rules(OneGuard(web), plan[0], moves)
                     self.assertEqual(plan_turns(web, (plan[0], moves)), expected)
 
     def test_a_plan_that_goes_in_circles(self):
@@ -183,7 +146,7 @@ class PlanTurns(unittest.TestCase):
     def test_changed_entries(self):
         for web in (row_web(), long_row(5), full_web(4), long_row(12)):
             start, moves = a_plan(web)
-            coming = standings_that_come_up(web, (start, moves))
+            coming = standings_that_come_up(OneGuard(web), (start, moves))
             for standing in coming:
                 less = {key: moves[key] for key in moves if key != standing}
                 self.assertIs(plan_turns(web, (start, less)), None)
