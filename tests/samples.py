@@ -93,6 +93,15 @@ def renamed(web, names, order):
     return Web([name[web.places[at]] for at in order], ties)
 
 
+def turned(web):
+    """Return an equal web with its places in another sequence than that of their names."""
+    return Web([*web.places[1::2], *web.places[::2]], [(other, one) for one, other in web.ties[::-1]])
+
+
+def turned_webs():
+    return [turned(web) for web in (long_row(6), ring_of(7), full_web(4), web_of_parts(3, 2), web_of_parts(4, 1, 1))]
+
+
 def standings_of(web):
     """Return the list of all tuples of two different places."""
     return [(guard, runner) for guard in web.places for runner in web.places if guard != runner]

@@ -10,7 +10,7 @@ from cornerturn.ranks import all_ranks, best_starts, rank_of, turns_needed
 from cornerturn.webs import Web
 from rules import OneGuard, answers_by_the_rules, ranks_by_the_rules
 from samples import (LETTERS, Mixed, all_webs, any_values, full_web, long_row, looks, no_names, opposite, renamed,
-                     ring_of, ring_web, row_web, some_webs, web_of_parts)
+                     ring_of, ring_web, row_web, some_webs, turned_webs, web_of_parts)
 
 
 def chase_with(web, *moves):
@@ -65,7 +65,7 @@ class Answers(unittest.TestCase):
 
     def test_larger_webs(self):
         for web in [*some_webs(6, 15), *some_webs(9, 5), *some_webs(12, 3), long_row(12), ring_of(12), full_web(12),
-                    Web(list(LETTERS)), web_of_parts(5, 4, 2, 1), opposite(ring_of(9))]:
+                    Web(list(LETTERS)), web_of_parts(5, 4, 2, 1), opposite(ring_of(9)), *turned_webs()]:
             self.assert_answers(web)
 
     def test_best_moves_reach_what_is_left(self):
@@ -397,12 +397,13 @@ class Calls(unittest.TestCase):
         self.assertEqual((one.guard, other.guard), ("a", "b"))
 
     def test_ranks_are_reckoned_once(self):
-        web = long_row(6)
-        with mock.patch.object(games, "rank_rounds", wraps=games.rank_rounds) as reckoned:
-            for chase in [*all_stands(web), *all_stands(web)]:
-                look(chase)
-            self.assertEqual([rank_of(web, "a", "f"), all_ranks(web)["a", "f"], turns_needed(web)], [5, 5, 3])
-            self.assertEqual(reckoned.call_count, 1)
+        for name in ("rank_rounds", "rank_rows"):
+            web = long_row(6)
+            with mock.patch.object(games, name, wraps=getattr(games, name)) as reckoned:
+                for chase in [*all_stands(web), *all_stands(web)]:
+                    look(chase)
+                self.assertEqual([rank_of(web, "a", "f"), all_ranks(web)["a", "f"], turns_needed(web)], [5, 5, 3])
+                self.assertEqual(reckoned.call_count, 1)
 
     def test_arguments_by_name(self):
         chase = Chase(web=row_web())

@@ -15,7 +15,7 @@ from cornerturn.webs import Web
 from rules import (Paced, free_standings, is_way_out_by_the_rules, plan_turns_by_the_rules, ranks_by_the_rules,
                    standings_that_come_up, starts_by_the_rules)
 from samples import (LETTERS, Mixed, all_webs, any_values, full_web, long_row, looks, no_names, opposite, ring_of,
-                     ring_web, row_web, some_webs, standings_of, web_of_parts)
+                     ring_web, row_web, some_webs, standings_of, turned_webs, web_of_parts)
 
 ALL = range(1, 13)
 SOME = [(1, 1), (1, 2), (2, 1), (2, 2), (1, 3), (3, 1), (2, 3), (3, 2), (2, 12), (12, 1), (12, 12), (1, 12)]
@@ -27,7 +27,8 @@ def bad_paces():
 
 
 def large_webs():
-    return [long_row(8), ring_of(8), web_of_parts(5, 3), opposite(ring_of(7)), *some_webs(6, 8), *some_webs(8, 5)]
+    return [long_row(8), ring_of(8), web_of_parts(5, 3), opposite(ring_of(7)), *some_webs(6, 8), *some_webs(8, 5),
+            *turned_webs()]
 
 
 def largest_webs():

@@ -12,7 +12,7 @@ from cornerturn.teams import BadPost, posts, seen_posts, team_ranks, team_starts
 from cornerturn.webs import Web
 from rules import Team, answers_by_the_rules, ranks_by_the_rules
 from samples import (LETTERS, Mixed, all_webs, any_values, full_web, long_row, looks, no_names, opposite, renamed,
-                     ring_of, ring_web, row_web, some_webs, web_of_parts)
+                     ring_of, ring_web, row_web, some_webs, turned_webs, web_of_parts)
 
 
 def chase_with(web, *moves):
@@ -41,7 +41,7 @@ def all_stands(web):
 
 def large_webs():
     return [*some_webs(5, 8), *some_webs(6, 4), ring_of(7), long_row(7), web_of_parts(4, 2), web_of_parts(3, 2, 1),
-            full_web(5), Web(list("abcde")), opposite(ring_of(6))]
+            full_web(5), Web(list("abcde")), opposite(ring_of(6)), *turned_webs()]
 
 
 class Examples(unittest.TestCase):

@@ -12,7 +12,7 @@ from cornerturn.webs import Web
 from rules import (Team, free_standings, is_way_out_by_the_rules, plan_turns_by_the_rules, ranks_by_the_rules,
                    standings_that_come_up, starts_by_the_rules)
 from samples import (LETTERS, Mixed, all_webs, any_values, full_web, long_row, looks, no_names, opposite, renamed,
-                     ring_of, ring_web, row_web, some_webs, web_of_parts)
+                     ring_of, ring_web, row_web, some_webs, turned_webs, web_of_parts)
 
 
 def star_web():
@@ -30,7 +30,7 @@ def large_webs():
     """Return webs of seven to ten places, some of them in parts, some too hard for two guards."""
     return [*some_webs(7, 10), *some_webs(8, 8), *some_webs(10, 5), long_row(10), ring_of(10), full_web(10), star_web(),
             web_of_parts(4, 4, 2), web_of_parts(5, 5), web_of_parts(2, 2, 2), web_of_parts(6, 3), apart(10),
-            opposite(ring_of(9))]
+            opposite(ring_of(9)), *turned_webs()]
 
 
 def hard_webs():

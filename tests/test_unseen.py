@@ -9,7 +9,7 @@ from cornerturn.errors import BadPlan, BadTie, WebError
 from cornerturn.unseen import a_refuge, a_walk, catches, is_refuge, lots, walk_turns
 from cornerturn.webs import Web
 from samples import (LETTERS, Mixed, all_webs, any_values, full_web, long_row, looks, no_names, opposite, ring_of,
-                     ring_web, row_web, some_webs, web_of_parts)
+                     ring_web, row_web, some_webs, turned, turned_webs, web_of_parts)
 
 
 def lot_behind(web, lot, place):
@@ -69,14 +69,14 @@ def forked_web():
 def hard_webs():
     """Return webs for which no walk catches."""
     return [Web(["a", "b"]), full_web(3), ring_web(), ring_of(7), full_web(7), Web(list("abcdefg")), web_of_parts(2, 2),
-            web_of_parts(4, 3), opposite(ring_of(6)), forked_web()]
+            web_of_parts(4, 3), opposite(ring_of(6)), forked_web(), *turned_webs()[1:]]
 
 
 def easy_webs():
     """Return webs for which some walk catches."""
     comb = Web(list("abcdefg"), [("a", "b"), ("b", "c"), ("c", "d"), ("a", "e"), ("b", "f"), ("c", "g")])
     star = Web(list("abcdefg"), [("a", place) for place in "bcdefg"])
-    return [*[long_row(many) for many in range(1, 8)], star, comb]
+    return [*[long_row(many) for many in range(1, 8)], star, comb, turned(long_row(7)), turned(comb)]
 
 
 class Examples(unittest.TestCase):
@@ -197,7 +197,7 @@ class Walks(unittest.TestCase):
 
     def test_known_webs(self):
         self.assertEqual([walk_turns(long_row(many)) for many in range(1, 8)], [0, 1, 2, 3, 4, 5, 6])
-        self.assertEqual([walk_turns(web) for web in hard_webs()], [None] * 10)
+        self.assertEqual([walk_turns(web) for web in hard_webs()], [None] * 14)
         self.assertEqual([walk_turns(full_web(2)), walk_turns(full_web(3))], [1, None])
         self.assertEqual((a_walk(Web(["x"])), walk_turns(Web(["x"]))), (["x"], 0))
 
